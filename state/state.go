@@ -1,0 +1,51 @@
+// Package state: states of nets, for the layers in which nodes look at what their neighbours have.
+package state
+
+import (
+	"slices"
+
+	"signpost/api"
+)
+
+// Look: the routes that node i has to each node, if it looks now. Where what its neighbours have is kept, and how old that is, differs from layer to layer: has tells what a link's To has to node j. The net was checked.
+func Look(n api.Net, i int, has func(to, j int) int) []int {
+	out := make([]int, n.Nodes)
+	for j := range out {
+		out[j] = route(n, i, j, has)
+	}
+	return out
+}
+
+// route of i to j. The laws hold, so the links may come in any order, and the invalid one stands for none.
+func route(n api.Net, i, j int, has func(to, j int) int) int {
+	best := Own(n, i, j)
+	for _, l := range n.Links {
+		if l.From == i {
+			made := n.Algebra.Edges[l.Edge][has(l.To, j)]
+			best = n.Algebra.Best[best][made]
+		}
+	}
+	return best
+}
+
+// Own route of i to j, without any link: the trivial one to itself, else the invalid one.
+func Own(n api.Net, i, j int) int {
+	if i == j {
+		return 0
+	}
+	return n.Algebra.Size - 1
+}
+
+// Copy of a state, whose rows share no memory, though those that were handed in may.
+func Copy(x [][]int) [][]int {
+	out := make([][]int, len(x))
+	for i, row := range x {
+		out[i] = slices.Clone(row)
+	}
+	return out
+}
+
+// Same tells whether two states have the same routes.
+func Same(x, y [][]int) bool {
+	return slices.EqualFunc(x, y, func(a, b []int) bool { return slices.Equal(a, b) })
+}

@@ -1,4 +1,4 @@
-// Package state: states of nets, for the layers in which nodes look at what their neighbours have.
+// Package state: states of nets, for the layers in which nodes look at what their neighbours have. Routes, edges and nodes are numbered from 0 on, so all of them are checked alike.
 package state
 
 import (
@@ -48,4 +48,12 @@ func Copy(x [][]int) [][]int {
 // Same tells whether two states have the same routes.
 func Same(x, y [][]int) bool {
 	return slices.EqualFunc(x, y, func(a, b []int) bool { return slices.Equal(a, b) })
+}
+
+// Below: is it one of the numbers from 0 on, and below end?
+func Below(x, end int) bool { return x >= 0 && x < end }
+
+// AllBelow: are all of them?
+func AllBelow(row []int, end int) bool {
+	return !slices.ContainsFunc(row, func(x int) bool { return !Below(x, end) })
 }

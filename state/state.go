@@ -1,4 +1,4 @@
-// Package state: states of nets, for the layers in which nodes look at what their neighbours have. Routes, edges and nodes are numbered from 0 on, so all of them are checked alike.
+// Package state: states of nets, for the layers in which nodes look at what their neighbours have. Routes, edges and nodes are numbered from 0 on, so all of them are checked alike; routes are numbers, or have paths, so what does not ask what a route is takes either.
 package state
 
 import (
@@ -6,6 +6,9 @@ import (
 
 	"signpost/api"
 )
+
+// MostRounds is how many rounds may be asked for.
+const MostRounds = 1000
 
 // Look: the routes that node i has to each node, if it looks now. Where what its neighbours have is kept, and how old that is, differs from layer to layer: has tells what a link's To has to node j. The net was checked.
 func Look(n api.Net, i int, has func(to, j int) int) []int {
@@ -34,6 +37,40 @@ func Own(n api.Net, i, j int) int {
 		return 0
 	}
 	return n.Algebra.Size - 1
+}
+
+// Square tells whether there are so many rows of so many.
+func Square[T any](x [][]T, nodes int) bool {
+	if len(x) != nodes {
+		return false
+	}
+	return !slices.ContainsFunc(x, func(row []T) bool { return len(row) != nodes })
+}
+
+// Filled: a square of so many nodes; at tells what i has to j.
+func Filled[T any](nodes int, at func(i, j int) T) [][]T {
+	out := make([][]T, nodes)
+	for i := range out {
+		out[i] = make([]T, nodes)
+		for j := range out[i] {
+			out[i][j] = at(i, j)
+		}
+	}
+	return out
+}
+
+// Settle a state: rounds, until one changes nothing, or most were made; and how many changed something. What comes may be x itself.
+func Settle[T any](x [][]T, most int, round func(x [][]T) [][]T, same func(x, y [][]T) bool) ([][]T, int) {
+	changes := 0
+	for range most {
+		next := round(x)
+		if same(x, next) {
+			break
+		}
+		x = next
+		changes++
+	}
+	return x, changes
 }
 
 // Copy of a state, whose rows share no memory, though those that were handed in may.
